@@ -1,0 +1,1 @@
+"""Dykemoot: fields behind dykes, days of water, and the fewest coins that keep them dry."""

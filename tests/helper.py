@@ -1,0 +1,117 @@
+"""What several tests need: lands to look at, wrong things of every kind, and a check of refusals."""
+
+from dykemoot.lands import Land
+
+
+class EqualToAll:
+    """Calls itself equal to everything, so a check by `==` or `in` alone takes it for a name."""
+
+    def __eq__(self, other):
+        return True
+
+    def __hash__(self):
+        return hash("a")
+
+
+class EmptyLike(EqualToAll):
+    def __len__(self):
+        return 0
+
+    def __iter__(self):
+        return iter(())
+
+
+def endless_list():
+    rows = []
+    rows.append(rows)
+    return rows
+
+
+ANYTHING = [
+    None, True, False, 0, 1, -1, 10 ** 30, 0.0, 1.0, 1.5, float("nan"), float("inf"), 1j,
+    "", "a", "sea", "zz", "A", " ", "0", "\n", b"", b"a",
+    [], [None], [0], ["a"], ["zz"], [[]], [()], endless_list(),
+    (), (None,), (0,), ("a",), ("a", 0), ("a", 0, 0), ((),),
+    {}, {"a": 0}, {0: 0}, {"a": ("a", 0, 0)}, set(), {"a"}, frozenset({"a"}), range(0), range(2), iter([]),
+    object(), int, str, len, EqualToAll(), EmptyLike(), ValueError("a"),
+]
+
+
+def seen(thing):
+    """How a thing looks now, a land by its rows, to be compared later on."""
+    return repr((thing.fields(), thing.dykes()) if isinstance(thing, Land) else thing)
+
+
+def assert_refused(case, error, deed, *handed):
+    """Just this class, twice alike, and what was handed in is as it was."""
+    before = [seen(thing) for thing in handed]
+    for _ in range(2):
+        try:
+            told = deed(*handed)
+        except ValueError as refusal:
+            case.assertIs(type(refusal), error, handed)
+        else:
+            case.fail(f"not refused: {handed!r}, but told {told!r}")
+    case.assertEqual([seen(thing) for thing in handed], before)
+
+
+class Numbers:
+    """Numbers in a fixed row that looks mixed: the same in each run and under each Python."""
+
+    def __init__(self, seed):
+        self.state = seed
+
+    def below(self, bound):
+        self.state = (self.state * 6364136223846793005 + 1442695040888963407) % 2 ** 64
+        return (self.state >> 33) % bound
+
+    def between(self, least, most):
+        return least + self.below(most - least + 1)
+
+
+def letters(number):
+    """A name for each number: a, b, .. z, ba, bb, .."""
+    return ("" if number < 26 else letters(number // 26)) + chr(ord("a") + number % 26)
+
+
+def some_dyke(numbers, name, sides, spread):
+    one = sides[numbers.below(len(sides))]
+    other = [side for side in sides if side != one][numbers.below(len(sides) - 1)]
+    crown = numbers.between(-spread, spread)
+    sill = crown - numbers.between(1, spread) if numbers.below(2) else None
+    return (name, one, other, crown, numbers.below(10), sill)
+
+
+def some_land(seed, most_fields=6, most_dykes=10, spread=6):
+    """A land of the fixed row, with low numbers so that many heights are alike."""
+    numbers = Numbers(seed)
+    fields = [(letters(place), numbers.between(-spread, spread), numbers.below(100))
+              for place in range(numbers.between(1, most_fields))]
+    sides = ["sea"] + [field[0] for field in fields]
+    dykes = [some_dyke(numbers, letters(place), sides, spread)
+             for place in range(numbers.between(1, most_dykes))]
+    return Land(fields, dykes)
+
+
+FIELDS = [("marsh", -3, 7), ("polder", 2, 0), ("mill", 5, 1000000)]
+DYKES = [
+    ("west", "sea", "marsh", 4, 10, None),
+    ("gate", "polder", "sea", 9, 0, -2),
+    ("marsh", "marsh", "polder", 6, 3, 5),
+    ("lock", "mill", "marsh", 3, 1, 2),
+]
+
+
+def sample():
+    """Three fields, each with a way; a dyke that has a field's name; sluices in three of four dykes."""
+    return Land(list(FIELDS), list(DYKES))
+
+
+def widest():
+    """Twelve fields in a chain from the sea and forty dykes, the farthest ones told first."""
+    fields = [(letters(place), place, place) for place in range(12)]
+    chain = [("sea", "a")] + [(letters(place), letters(place + 1)) for place in range(11)]
+    pairs = [chain[place % 12] for place in range(40)]
+    dykes = [(letters(place), pair[0], pair[1], 100 + place, place, place)
+             for place, pair in enumerate(pairs)]
+    return Land(fields, list(reversed(dykes)))
