@@ -1,4 +1,7 @@
-"""The package keeps to the rules of ../shared/LANGUAGE.md that can be seen from its files alone."""
+"""Some rules of ../shared/LANGUAGE.md, held against the package's files.
+
+Looked at, in whole or in part: L1 to L8, L10, L12, L14 to L18, L20, L25, L27. The others are left to the reader.
+"""
 
 import ast
 import builtins
