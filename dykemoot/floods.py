@@ -4,24 +4,24 @@ from dykemoot.errors import NoSluice
 from dykemoot.lands import MOST_HEIGHT, SEA, is_one_of
 
 
-def are_sluices(land, thing):
+def check_sluices(land, thing):
     sluices = land.sluices()
-    return isinstance(thing, list) and all([is_one_of(name, sluices) for name in thing])
+    if not isinstance(thing, list) or not all([is_one_of(name, sluices) for name in thing]):
+        raise NoSluice("these are no dykes with a sluice")
 
 
 def stands(land, opened):
-    if not are_sluices(land, opened):
-        raise NoSluice("these are no dykes with a sluice")
+    check_sluices(land, opened)
     return dict([(dyke[0], dyke[5] if dyke[0] in opened else dyke[3]) for dyke in land.dykes()])
 
 
-# A way never leads back to the sea, so the steps (from, to, height) are those that lead to fields.
+# A way never leads back to the sea, so the steps (dyke, near, far, height) are those that lead to fields.
 def steps_inland(land, stand_of):
     steps = []
     for dyke in land.dykes():
         for near, far in [(dyke[1], dyke[2]), (dyke[2], dyke[1])]:
             if far != SEA:
-                steps.append((near, far, max(stand_of[dyke[0]], land.ground(far))))
+                steps.append((dyke[0], near, far, max(stand_of[dyke[0]], land.ground(far))))
     return steps
 
 
@@ -31,7 +31,7 @@ def flood_heights(land, opened):
     lowest = {SEA: -MOST_HEIGHT}
     # No way has more dykes than there are fields, so as many rounds find the lowest one.
     for turn in range(len(land.field_names())):
-        for near, far, height in steps:
+        for name, near, far, height in steps:
             if near in lowest:
                 reached = max(lowest[near], height)
                 lowest[far] = min(reached, lowest.get(far, reached))

@@ -86,6 +86,14 @@ def are_works(land, thing):
     return isinstance(thing, list) and all([is_work(land, row) for row in thing]) and none_twice(thing)
 
 
+# Rings, wishes and companies are all told so.
+def are_some_fields(land, thing):
+    names = land.field_names()
+    if not is_list_of(thing, len(names)) or not all([is_one_of(name, names) for name in thing]):
+        return False
+    return len(set(thing)) == len(thing)
+
+
 def with_crown(dyke, crown):
     return dyke[:3] + (crown,) + dyke[4:]
 

@@ -1,4 +1,6 @@
-"""What several tests need: lands to look at, wrong things of every kind, and a check of refusals."""
+"""What several tests need: lands to look at, plain readings, wrong things of every kind, and a check of refusals."""
+
+import itertools
 
 from dykemoot.lands import Land
 
@@ -91,6 +93,58 @@ def some_land(seed, most_fields=6, most_dykes=10, spread=6):
     dykes = [some_dyke(numbers, letters(place), sides, spread)
              for place in range(numbers.between(1, most_dykes))]
     return Land(fields, dykes)
+
+
+def sets_of_sluices(land):
+    names = land.sluices()[:4]
+    return [list(some) for size in range(len(names) + 1) for some in itertools.combinations(names, size)]
+
+
+def stand(row, opened):
+    return row[5] if row[0] in opened else row[3]
+
+
+def ways_on(land, here="sea", been=()):
+    """Each way on the land as (dykes, fields that it leads to), by walking every one of them."""
+    found = []
+    for row in land.dykes():
+        if here in row[1:3]:
+            there = row[2] if here == row[1] else row[1]
+            if there != "sea" and there not in been:
+                found.append(([row[0]], [there]))
+                for way, fields in ways_on(land, there, been + (there,)):
+                    found.append(([row[0]] + way, [there] + fields))
+    return found
+
+
+def height_by_hand(land, opened, way, fields):
+    return max([stand(land.dyke(name), opened) for name in way] + [land.ground(name) for name in fields])
+
+
+def floods_by_hand(land, opened):
+    """The flood heights, by the height of each way."""
+    least = dict.fromkeys(land.field_names())
+    for way, fields in ways_on(land):
+        height = height_by_hand(land, opened, way, fields)
+        if least[fields[-1]] is None or height < least[fields[-1]]:
+            least[fields[-1]] = height
+    return least
+
+
+def some_condition(numbers, land, spread=6):
+    field = land.field_names()[numbers.below(len(land.field_names()))]
+    turn = numbers.between(1, 4)
+    return [("always",), ("above", numbers.between(-spread, spread)), ("below", numbers.between(-spread, spread)),
+            ("wet", field), ("dry", field), ("day", numbers.below(turn), turn)][numbers.below(6)]
+
+
+def some_decrees(seed, land, most=8):
+    """Decrees of the fixed row; none where the land has no sluice."""
+    numbers = Numbers(seed)
+    sluices = land.sluices()
+    return [(["open", "shut"][numbers.below(2)], sluices[numbers.below(len(sluices))],
+             [some_condition(numbers, land) for _ in range(numbers.between(1, 3))])
+            for _ in range(numbers.below(most + 1) if sluices else 0)]
 
 
 FIELDS = [("marsh", -3, 7), ("polder", 2, 0), ("mill", 5, 1000000)]

@@ -6,32 +6,8 @@ import unittest
 from dykemoot.errors import NoSluice
 from dykemoot.floods import flood_heights, stands
 from dykemoot.lands import Land
-from tests.helper import ANYTHING, DYKES, FIELDS, assert_refused, letters, sample, some_land, widest
-
-
-def stand(row, opened):
-    return row[5] if row[0] in opened else row[3]
-
-
-def heights_of_ways(land, opened, field, here="sea", been=(), height=None):
-    """The height of each way to the field, by walking every one of them."""
-    found = []
-    for row in land.dykes():
-        if here in row[1:3]:
-            there = row[2] if here == row[1] else row[1]
-            if there != "sea" and there not in been:
-                reached = max(stand(row, opened), land.ground(there))
-                reached = reached if height is None else max(reached, height)
-                if there == field:
-                    found.append(reached)
-                else:
-                    found += heights_of_ways(land, opened, field, there, been + (there,), reached)
-    return found
-
-
-def sets_of_sluices(land):
-    names = land.sluices()[:4]
-    return [list(some) for size in range(len(names) + 1) for some in itertools.combinations(names, size)]
+from tests.helper import (ANYTHING, DYKES, FIELDS, assert_refused, floods_by_hand, letters, sample, sets_of_sluices,
+                          some_land, stand, widest)
 
 
 class TestStands(unittest.TestCase):
@@ -154,9 +130,7 @@ class TestFloodHeights(unittest.TestCase):
             for opened in sets_of_sluices(land):
                 told = flood_heights(land, opened)
                 self.assertEqual(list(told), land.field_names())
-                for field in told:
-                    ways = heights_of_ways(land, opened, field)
-                    self.assertEqual(told[field], min(ways) if ways else None, (seed, opened, field))
+                self.assertEqual(told, floods_by_hand(land, opened), (seed, opened))
 
 
 class TestNoSluice(unittest.TestCase):

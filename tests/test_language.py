@@ -1,6 +1,6 @@
 """Some rules of ../shared/LANGUAGE.md, held against the package's files.
 
-Looked at, in whole or in part: L1 to L8, L10, L12, L14 to L18, L20, L25, L27. The others are left to the reader.
+Looked at, in whole or in part: L1 to L8, L10, L12, L14 to L20, L22 to L25, L27. The others are left to the reader.
 """
 
 import ast
@@ -27,6 +27,10 @@ NO_NAMES = set("""
 NO_WORDS = re.compile(
     r"\b(type|typing|typing_extensions|enum|Enum|IntEnum|StrEnum|Flag|IntFlag|Generic|Protocol|ABC|ABCMeta|namedtuple"
     r"|NamedTuple|TypedDict|TYPE_CHECKING|abstractmethod)\b|dataclass|overload|contextmanager")
+KEYWORDS = {"sorted": ("key", "reverse"), "min": ("key", "default"), "max": ("key", "default"), "sum": ("start",),
+            "enumerate": ("start",), "zip": ("strict",)}
+WALKED = ("zip", "enumerate", "reversed", "range", "items", "keys", "values")
+WALKERS = ("list", "tuple", "dict", "sorted", "sum", "any", "all", "enumerate", "zip")
 UNDERSCORED = ("__init__", "__eq__", "__repr__", "__str__", "__len__")
 NODES = tuple(getattr(ast, name) for name in """
     Module FunctionDef Lambda ClassDef arguments arg Return Assign AugAssign For While If Raise Try ExceptHandler
@@ -54,6 +58,33 @@ def bound_names(node):
     if isinstance(node, ast.Name) and isinstance(node.ctx, ast.Store):
         return [node.id]
     return [node.name] if isinstance(node, ast.ExceptHandler) and node.name else []
+
+
+def called(node):
+    """The name of the function or method that a node calls, or None."""
+    if not isinstance(node, ast.Call):
+        return None
+    return node.func.id if isinstance(node.func, ast.Name) else getattr(node.func, "attr", None)
+
+
+def walked_in(node):
+    """The parts of a node that are walked on the spot."""
+    if isinstance(node, (ast.For, ast.comprehension)):
+        return [node.iter]
+    if called(node) in WALKERS:
+        return node.args[:1]
+    if called(node) in ("min", "max") and len(node.args) == 1:
+        return node.args
+    return node.args if called(node) == "join" and isinstance(node.func.value, ast.Constant) else []
+
+
+def sets_in(node):
+    """The parts of a node where a set may stand."""
+    if isinstance(node, ast.Compare):
+        return [node.left] + node.comparators
+    if isinstance(node, ast.BinOp) and isinstance(node.op, (ast.Sub, ast.BitAnd, ast.BitOr, ast.BitXor)):
+        return [node.left, node.right]
+    return node.args if called(node) in ("len", "sorted") and not node.keywords else []
 
 
 class TestLanguage(unittest.TestCase):
@@ -162,6 +193,39 @@ class TestLanguage(unittest.TestCase):
                 if isinstance(node, (ast.arg, ast.Name)):
                     for name in bound_names(node):
                         self.assertNotIn(name, taken, f"{path.name}:{node.lineno}")
+
+    def test_walked_at_once(self):
+        for path in FILES:
+            nodes = list(ast.walk(tree_of(path)))
+            walked = [part for node in nodes for part in walked_in(node)]
+            for node in nodes:
+                if called(node) in WALKED:
+                    self.assertIn(node, walked, f"{path.name}:{node.lineno}")
+
+    def test_sets(self):
+        for path in FILES:
+            nodes = list(ast.walk(tree_of(path)))
+            places = [part for node in nodes for part in sets_in(node)]
+            for node in nodes:
+                if called(node) in ("set", "frozenset") or isinstance(node, ast.Set):
+                    self.assertIn(node, places, f"{path.name}:{node.lineno}")
+
+    def test_calls_of_pythons_own(self):
+        for place, node in walk():
+            if isinstance(node, ast.Call) and called(node) in PYTHONS_OWN | METHODS:
+                for keyword in node.keywords:
+                    self.assertIn(keyword.arg, KEYWORDS.get(called(node), ()), place)
+            if called(node) == "isinstance":
+                self.assertIsInstance(node.args[1], (ast.Name, ast.Tuple), place)
+
+    def test_errors_that_are_taken(self):
+        own = [part.name for part in tree_of(PACKAGE / "errors.py").body if isinstance(part, ast.ClassDef)]
+        for place, node in walk():
+            if isinstance(node, ast.ExceptHandler):
+                self.assertIsInstance(node.type, ast.Name, place)
+                self.assertIn(node.type.id, own + ["KeyError", "ZeroDivisionError", "StopIteration"], place)
+            if isinstance(node, ast.Raise):
+                self.assertIn(called(node.exc), own, place)
 
     def test_methods_and_values(self):
         methods, values = set(), set()
