@@ -7,15 +7,20 @@ FIGURES = "0123456789"
 MOST_FIGURES = 7
 
 
-def number_of(word):
+# Coins are told at the desk by more figures than other numbers, but are written alike.
+def number_within(word, most):
     if not isinstance(word, str):
         return None
     figures = word[1:] if word.startswith("-") else word
-    if not 1 <= len(figures) <= MOST_FIGURES or not all([sign in FIGURES for sign in figures]):
+    if not 1 <= len(figures) <= most or not all([sign in FIGURES for sign in figures]):
         return None
     if figures.startswith("0") and word != "0":
         return None
     return int(word)
+
+
+def number_of(word):
+    return number_within(word, MOST_FIGURES)
 
 
 def field_row(field):

@@ -2,6 +2,7 @@
 
 import itertools
 
+from dykemoot.decrees import holds
 from dykemoot.lands import Land
 
 
@@ -131,6 +132,42 @@ def floods_by_hand(land, opened):
     return least
 
 
+def opened_by_hand(land, decrees, opened, level, wet, day):
+    """A plain reading of 5.3: each sluice by itself."""
+    told = []
+    for dyke in land.sluices():
+        said = [row[0] for row in decrees if row[1] == dyke and holds(row, level, wet, day)]
+        if said[-1] == "open" if said else dyke in opened:
+            told.append(dyke)
+    return told
+
+
+def day_by_hand(land, decrees, before, level, day):
+    """A plain reading of 6.1, from (opened, wet) of the day before."""
+    opened = opened_by_hand(land, decrees, before[0], level, before[1], day)
+    heights = floods_by_hand(land, opened)
+    wet = []
+    for field in land.field_names():
+        reached = heights[field] is not None and heights[field] < level
+        falls_dry = heights[field] == land.ground(field) and level <= land.ground(field)
+        if reached or field in before[1] and not falls_dry:
+            wet.append(field)
+    return (opened, wet)
+
+
+def least_by_trying(land, fields, height):
+    """The fewest coins of any dykes, raised to the height, that stand on each low way to the wish."""
+    low = [set(way) for way, along in ways_on(land)
+           if along[-1] in fields and height_by_hand(land, [], way, along) < height]
+    rows = [row for row in land.dykes() if row[3] < height]
+    found = []
+    for size in range(len(rows) + 1):
+        for some in itertools.combinations(rows, size):
+            if all(way & {row[0] for row in some} for way in low):
+                found.append(sum(row[4] * (height - row[3]) for row in some))
+    return min(found)
+
+
 def some_condition(numbers, land, spread=6):
     field = land.field_names()[numbers.below(len(land.field_names()))]
     turn = numbers.between(1, 4)
@@ -169,3 +206,19 @@ def widest():
     dykes = [(letters(place), pair[0], pair[1], 100 + place, place, place)
              for place, pair in enumerate(pairs)]
     return Land(fields, list(reversed(dykes)))
+
+
+def square():
+    """Two ways from the sea to d, with a dyke between them, and a hill that no wish below 50 goes over."""
+    fields = [("a", 0, 1), ("b", 0, 1), ("d", 0, 1), ("hill", 50, 1)]
+    dykes = [
+        ("sa", "sea", "a", 4, 3, None),
+        ("sb", "b", "sea", 7, 5, 1),
+        ("ab", "a", "b", 9, 1, None),
+        ("ad", "d", "a", 8, 10, 2),
+        ("bd", "b", "d", 2, 1, None),
+        ("sh", "sea", "hill", 0, 1, None),
+        ("hd", "hill", "d", 0, 1, None),
+        ("high", "sea", "d", 10, 1, 0),
+    ]
+    return Land(fields, dykes)

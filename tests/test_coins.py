@@ -6,26 +6,10 @@ import unittest
 from dykemoot.coins import coins_of, fewest, keeps, paper_for
 from dykemoot.errors import NoWish, NoWork
 from dykemoot.lands import Land
-from tests.helper import (ANYTHING, DYKES, FIELDS, Numbers, assert_refused, floods_by_hand, height_by_hand, letters,
-                          sample, some_land, ways_on, widest)
+from tests.helper import (ANYTHING, DYKES, FIELDS, Numbers, assert_refused, floods_by_hand, least_by_trying, letters,
+                          sample, some_land, square, widest)
 
 TOP = 10 ** 6
-
-
-def square():
-    """Two ways from the sea to d, with a dyke between them, and a hill that no wish below 50 goes over."""
-    fields = [("a", 0, 1), ("b", 0, 1), ("d", 0, 1), ("hill", 50, 1)]
-    dykes = [
-        ("sa", "sea", "a", 4, 3, None),
-        ("sb", "b", "sea", 7, 5, 1),
-        ("ab", "a", "b", 9, 1, None),
-        ("ad", "d", "a", 8, 10, 2),
-        ("bd", "b", "d", 2, 1, None),
-        ("sh", "sea", "hill", 0, 1, None),
-        ("hd", "hill", "d", 0, 1, None),
-        ("high", "sea", "d", 10, 1, 0),
-    ]
-    return Land(fields, dykes)
 
 
 def wishes_of(land):
@@ -42,19 +26,6 @@ def some_wishes(land, seed):
 def coins_by_hand(land, works):
     rows = dict((row[0], row) for row in land.dykes())
     return sum(rows[name][4] * (height - rows[name][3]) for name, height in works)
-
-
-def least_by_trying(land, fields, height):
-    """The fewest coins of any dykes, raised to the height, that stand on each low way to the wish."""
-    low = [set(way) for way, along in ways_on(land)
-           if along[-1] in fields and height_by_hand(land, [], way, along) < height]
-    rows = [row for row in land.dykes() if row[3] < height]
-    found = []
-    for size in range(len(rows) + 1):
-        for some in itertools.combinations(rows, size):
-            if all(way & {row[0] for row in some} for way in low):
-                found.append(sum(row[4] * (height - row[3]) for row in some))
-    return min(found)
 
 
 def paper_by_hand(land, fields, height, stream):

@@ -7,7 +7,8 @@ import unittest
 from dykemoot.decrees import are_decrees, holds, opened_by, read_decrees, show_decrees
 from dykemoot.errors import NoDecree, NoSluice, NoText
 from dykemoot.lands import Land
-from tests.helper import ANYTHING, DYKES, FIELDS, assert_refused, sample, some_decrees, some_land, widest
+from tests.helper import (ANYTHING, DYKES, FIELDS, assert_refused, opened_by_hand, sample, some_decrees, some_land,
+                          widest)
 
 TOP = 10 ** 6
 ALWAYS = ("always",)
@@ -342,15 +343,6 @@ class TestHolds(unittest.TestCase):
             for some in itertools.permutations(truths, size):
                 decree = ("open", "gate", [condition for condition, truth in some])
                 self.assertIs(holds(decree, 4, ["mill"], 5), all(truth for condition, truth in some))
-
-
-def opened_by_hand(land, decrees, opened, level, wet, day):
-    told = []
-    for dyke in land.sluices():
-        said = [row[0] for row in decrees if row[1] == dyke and holds(row, level, wet, day)]
-        if said[-1] == "open" if said else dyke in opened:
-            told.append(dyke)
-    return told
 
 
 class TestOpenedBy(unittest.TestCase):

@@ -1,4 +1,4 @@
-"""The names and arguments of the interface, of the stages that are there."""
+"""The names and arguments of the interface."""
 
 import importlib
 import inspect
@@ -14,6 +14,9 @@ FUNCTIONS = {
                 "holds(decree, level, wet, day)", "opened_by(land, decrees, opened, level, wet, day)"],
     "coins": ["keeps(land, fields, height)", "coins_of(land, works)", "fewest(land, fields, height)",
               "paper_for(land, fields, height, stream)"],
+    "companies": ["cost(land, fields, height)", "saved(land, one, other, height)", "companies(land, fields, height)"],
+    "shares": ["fraction(top, bottom)", "plus(one, other)", "minus(one, other)", "less(one, other)",
+               "shares(land, fields, height)"],
 }
 CLASSES = {
     ("lands", "Land(fields, dykes)"): [
@@ -22,6 +25,9 @@ CLASSES = {
     ("seasons", "Season(land, decrees)"): [
         "day(self, level)", "days(self, levels)", "opened(self)", "wet(self)", "count(self)", "wet_days(self)",
         "onto(self, land)"],
+    ("moots", "Moot(land, purses)"): [
+        "move(self, fields, height, yes)", "put(self, field, coins)", "land(self)", "purses(self)", "done(self)"],
+    ("desk", "Desk()"): ["say(self, row)"],
 }
 
 

@@ -1,6 +1,6 @@
 """Some rules of ../shared/LANGUAGE.md, held against the package's files.
 
-Looked at, in whole or in part: L1 to L8, L10, L12, L14 to L20, L22 to L25, L27. The others are left to the reader.
+Looked at, in whole or in part: L1 to L8, L10, L12 to L28. The others, L9 and L11, are left to the reader.
 """
 
 import ast
@@ -31,6 +31,10 @@ KEYWORDS = {"sorted": ("key", "reverse"), "min": ("key", "default"), "max": ("ke
             "enumerate": ("start",), "zip": ("strict",)}
 WALKED = ("zip", "enumerate", "reversed", "range", "items", "keys", "values")
 WALKERS = ("list", "tuple", "dict", "sorted", "sum", "any", "all", "enumerate", "zip")
+# Names that methods, and that values of objects, have in common with Python's own values.
+SHARED_BY_METHODS = METHODS | {"add", "discard"}
+SHARED_BY_VALUES = set("count index title find get join lower upper split strip copy add".split())
+OWN_VALUES = (str, int, list, tuple, dict, set, frozenset, bytes, Exception)
 UNDERSCORED = ("__init__", "__eq__", "__repr__", "__str__", "__len__")
 NODES = tuple(getattr(ast, name) for name in """
     Module FunctionDef Lambda ClassDef arguments arg Return Assign AugAssign For While If Raise Try ExceptHandler
@@ -76,6 +80,20 @@ def walked_in(node):
     if called(node) in ("min", "max") and len(node.args) == 1:
         return node.args
     return node.args if called(node) == "join" and isinstance(node.func.value, ast.Constant) else []
+
+
+def is_plain(node, functions, deep=False):
+    """Whether a value may stand at a file's top, behind these functions."""
+    if isinstance(node, ast.Constant):
+        return True
+    if isinstance(node, ast.UnaryOp):
+        return isinstance(node.op, ast.USub) and isinstance(node.operand, ast.Constant)
+    if isinstance(node, ast.Name):
+        return node.id in functions
+    parts = node.keys + node.values if isinstance(node, ast.Dict) else getattr(node, "elts", None)
+    if not isinstance(node, (ast.Tuple, ast.List, ast.Dict)) or deep and not isinstance(node, ast.Tuple):
+        return False
+    return all(is_plain(part, functions, True) for part in parts)
 
 
 def sets_in(node):
@@ -145,12 +163,50 @@ class TestLanguage(unittest.TestCase):
                 self.assertLessEqual(len(node.bases), 1, place)
                 self.assertTrue(all(isinstance(part, (ast.FunctionDef, ast.Pass)) for part in node.body), place)
 
+    def test_no_annotations(self):
+        for place, node in walk():
+            self.assertIsNone(getattr(node, "annotation", None), place)
+            self.assertIsNone(getattr(node, "returns", None), place)
+
+    def test_methods_with_two_underscores(self):
+        for place, node in walk():
+            if isinstance(node, ast.FunctionDef) and node.name.startswith("__"):
+                self.assertEqual(node.name, "__init__", place)
+                self.assertEqual([part for part in ast.walk(node) if isinstance(part, ast.Return)], [], place)
+
+    def test_sets_that_are_written_out_and_lambdas(self):
+        lambdas = []
+        for place, node in walk():
+            self.assertNotIsInstance(node, ast.Set, place)
+            if isinstance(node, ast.Lambda):
+                self.assertNotIn(place, lambdas)
+                lambdas.append(place)
+
     def test_top_of_files(self):
         for path in FILES:
+            bound, functions = [], []
             for node in tree_of(path).body[1:]:
                 self.assertIsInstance(node, (ast.ImportFrom, ast.Assign, ast.FunctionDef, ast.ClassDef), path.name)
                 if isinstance(node, ast.Assign):
-                    ast.literal_eval(node.value)
+                    self.assertTrue(is_plain(node.value, functions), f"{path.name}:{node.lineno}")
+                if isinstance(node, ast.FunctionDef):
+                    functions.append(node.name)
+                bound += [name for part in getattr(node, "targets", [node]) for name in bound_names(part)]
+                bound += [alias.name for alias in getattr(node, "names", [])]
+            self.assertEqual(len(set(bound)), len(bound), path.name)
+
+    def test_lists_and_dicts_of_the_top_are_only_read(self):
+        for path in FILES:
+            tree = tree_of(path)
+            kept = [part.targets[0].id for part in tree.body if isinstance(part, ast.Assign)
+                    and isinstance(part.value, (ast.List, ast.Dict))]
+            nodes = list(ast.walk(tree))
+            read = [node.value for node in nodes if isinstance(node, ast.Subscript) and isinstance(node.ctx, ast.Load)]
+            read += [part for node in nodes if isinstance(node, ast.Compare) for part in node.comparators]
+            read += [node.func.value for node in nodes if called(node) == "get"]
+            for node in nodes:
+                if isinstance(node, ast.Name) and isinstance(node.ctx, ast.Load) and node.id in kept:
+                    self.assertIn(node, read, f"{path.name}:{node.lineno}")
 
     def test_imports(self):
         drawn = {}
@@ -237,6 +293,9 @@ class TestLanguage(unittest.TestCase):
             if isinstance(node, ast.Attribute) and isinstance(node.ctx, ast.Store):
                 values.add(node.attr)
         self.assertEqual(methods & values, set())
+        taken = {name for own in OWN_VALUES for name in dir(own)}
+        self.assertEqual(taken & methods - SHARED_BY_METHODS - set(UNDERSCORED), set())
+        self.assertEqual(taken & values - SHARED_BY_VALUES, set())
         for place, node in walk():
             if isinstance(node, ast.Call) and isinstance(node.func, ast.Attribute):
                 self.assertIn(node.func.attr, methods | METHODS, place)

@@ -7,7 +7,7 @@ from dykemoot.decrees import opened_by
 from dykemoot.errors import NoDecree, NoLevel
 from dykemoot.lands import Land
 from dykemoot.seasons import Season
-from tests.helper import (ANYTHING, DYKES, FIELDS, Numbers, assert_refused, floods_by_hand, sample, some_decrees,
+from tests.helper import (ANYTHING, DYKES, FIELDS, Numbers, assert_refused, day_by_hand, sample, some_decrees,
                           some_land, widest)
 
 TOP = 10 ** 6
@@ -26,19 +26,6 @@ def one_field(ground, crown, sill=None):
 def with_crowns(land, crowns):
     rows = [row[:3] + (crowns.get(row[0], row[3]),) + row[4:] for row in land.dykes()]
     return Land(land.fields(), rows)
-
-
-def day_by_hand(land, decrees, before, level, day):
-    """A plain reading of 6.1, from (opened, wet) of the day before."""
-    opened = opened_by(land, decrees, before[0], level, before[1], day)
-    heights = floods_by_hand(land, opened)
-    wet = []
-    for field in land.field_names():
-        reached = heights[field] is not None and heights[field] < level
-        falls_dry = heights[field] == land.ground(field) and level <= land.ground(field)
-        if reached or field in before[1] and not falls_dry:
-            wet.append(field)
-    return (opened, wet)
 
 
 class TestDays(unittest.TestCase):
